@@ -1,0 +1,26 @@
+"""The interface: names and how many arguments, taken by place."""
+
+import importlib
+import inspect
+import unittest
+
+INTERFACE = {
+    "runs": {
+        "is_note": 1, "is_run": 1, "is_runs": 1, "runs_of": 1, "many_in": 1, "holds": 2, "kth": 2, "place_of": 2,
+    },
+    "sets": {"together": 2, "both": 2, "less": 2, "is_within": 2, "of_series": 2},
+    "printings": {"is_printing": 1, "printed": 1, "number_at": 4, "seat_of": 2, "sheet_runs": 2, "pile": 3},
+    "stacks": {"stack_at": 3, "stack_place": 3, "is_rising": 2, "spoilt_by": 3},
+    "rows": {"is_row": 1, "places_in": 1, "row_at": 2, "row_runs": 1, "read_row": 2, "pieces_of": 1},
+}
+
+
+class InterfaceTest(unittest.TestCase):
+    def test_functions_take_what_is_listed(self):
+        for module, functions in INTERFACE.items():
+            loaded = importlib.import_module("pressnotes." + module)
+            for name, many in functions.items():
+                function = getattr(loaded, name)
+                self.assertTrue(inspect.isfunction(function), name)
+                # Raises TypeError where so many arguments by place don't fit.
+                inspect.signature(function).bind(*range(many))
