@@ -12,6 +12,16 @@ INTERFACE = {
     "printings": {"is_printing": 1, "printed": 1, "number_at": 4, "seat_of": 2, "sheet_runs": 2, "pile": 3},
     "stacks": {"stack_at": 3, "stack_place": 3, "is_rising": 2, "spoilt_by": 3},
     "rows": {"is_row": 1, "places_in": 1, "row_at": 2, "row_runs": 1, "read_row": 2, "pieces_of": 1},
+    "bundles": {
+        "is_bundling": 1, "many_bundles": 1, "bundle_row": 2, "seat_in": 2, "star_for": 2, "number_for": 2, "laid": 4,
+    },
+    "offices": {"is_office": 1, "places_of": 1, "worth_of": 2},
+    "pages": {"is_name": 1, "is_page": 2},
+    "books": {
+        "is_book": 2, "book_of": 1, "counted": 1, "waiting": 1, "voided": 1, "until": 2, "joined": 2,
+    },
+    "steps": {"steps": 2, "seals": 2, "told_place": 2},
+    "lasts": {"made": 1, "last_pages": 1},
 }
 
 

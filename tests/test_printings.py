@@ -87,7 +87,8 @@ class IsPrintingTest(PlainCase):
 
     def test_too_short_and_too_long(self):
         self.all_false(is_printing, [
-            self.RIGHT[:5], self.RIGHT + (0,), self.RIGHT + (None,), list(self.RIGHT), (self.RIGHT,), (), self.RIGHT[1:],
+            self.RIGHT[:5], self.RIGHT[1:], self.RIGHT + (0,), self.RIGHT + (None,), list(self.RIGHT), (self.RIGHT,),
+            (),
         ])
 
     def test_any_thing(self):
