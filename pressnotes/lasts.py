@@ -13,13 +13,18 @@ def made(book):
     return runs_of(found)
 
 
-def last_pages(book):
-    """LASTS: for each page that tells some notes' last step its name and the RUNS of these."""
+def last_steps(book):
+    """For each page that tells some notes' last step (its name, the place it leads to, the RUNS of these)."""
     found = []
     later = ()
     for moment, start, end, name, runs in reversed(all_steps(book)):
         left = less(runs, later)
         if left:
-            found.append((name, left))
+            found.append((name, end, left))
         later = together(later, runs)
-    return tuple(sorted(found))
+    return sorted(found)
+
+
+def last_pages(book):
+    """LASTS: for each page that tells some notes' last step its name and the RUNS of these."""
+    return tuple([(name, runs) for name, place, runs in last_steps(book)])

@@ -5,6 +5,8 @@ import re
 import signal
 import unittest
 
+from pressnotes.errors import NoPaper
+
 TOP = 1000000000
 BIG = 10 ** 39
 FORTY_FIGURES = int("9" * 40)
@@ -158,6 +160,63 @@ def random_runs(chance, most, series="ab", low=0, high=30):
     return found
 
 
+def office_places(office):
+    return sorted({"none"} | {place for road in office[1] for place in road})
+
+
+def distances(office):
+    """The fewest roads from each place of an office to each, None where none lead there: Floyd's way."""
+    places = office_places(office)
+    found = {(one, other): 0 if one == other else 10 ** 6 for one in places for other in places}
+    for road in office[1]:
+        found[road] = 1
+    for mid in places:
+        for one in places:
+            for other in places:
+                found[one, other] = min(found[one, other], found[one, mid] + found[mid, other])
+    return {pair: many if many < 10 ** 6 else None for pair, many in found.items()}
+
+
+def random_office(chance, words=("none", "press", "bank", "post", "mint"), most=8):
+    """An office of some roads between these places: in circles, dead ends, apart from none or not."""
+    roads = [(one, other) for one in words for other in words if one != other and other != "none"]
+    some = chance.sample(roads, chance.randint(1, min(most, len(roads))))
+    return ((("a", 5), ("b", 10)), tuple(sorted(some)))
+
+
+def is_row_of_roads(office, thing, one, other):
+    """Whether it is a tuple of places from the one to the other, road by road."""
+    if type(thing) is not tuple or len(thing) == 0 or thing[0] != one or thing[-1] != other:
+        return False
+    return all((thing[at - 1], thing[at]) in office[1] for at in range(1, len(thing)))
+
+
+def set_like(office, thing):
+    """Whether it is a SET of places of the office."""
+    if type(thing) is not tuple or not all(type(item) is str and item in office_places(office) for item in thing):
+        return False
+    return list(thing) == sorted(set(thing))
+
+
+def all_sets(office):
+    """All SETS of places of the office."""
+    places = office_places(office)
+    for bits in range(2 ** len(places)):
+        yield tuple(place for at, place in enumerate(places) if bits >> at & 1)
+
+
+def cut_due(office, one, other, places):
+    """What a SET is as a cut between two places, by the words of [42]."""
+    for k, (start, end) in enumerate(office[1]):
+        if start in places and end not in places:
+            return ("leaves", k)
+    if one not in places:
+        return ("from", 0)
+    if other in places:
+        return ("to", 0)
+    return ("told", True)
+
+
 class PlainCase(unittest.TestCase):
     """Compares strictly (True is no 1, a list no tuple), and fails what doesn't come to an end."""
 
@@ -203,6 +262,14 @@ class PlainCase(unittest.TestCase):
             self.same(due, function, *things)
         else:
             self.refused(error, {field: due}, function, *things)
+
+    def same_or_no_paper(self, due, function, *things):
+        """Due is ("told", thing), or the word and the place of a NoPaper."""
+        word, what = due
+        if word == "told":
+            self.same(what, function, *things)
+        else:
+            self.refused(NoPaper, {"word": word, "place": what}, function, *things)
 
     def all_true(self, function, things):
         for thing in things:

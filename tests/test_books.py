@@ -43,24 +43,25 @@ def book_like(office, thing):
     return names == sorted(set(names))
 
 
-def random_book(chance, most=9):
+def random_book(chance, most=9, roads=ROADS):
     """A book whose reads and voids often name pages of its own; its notes are a0 to a13 and b0 to b13."""
+    bag_roads = [road for road in roads if road[0] != "none"]
     pool = [(day, number, hand) for day in range(6) for number in (0, 1) for hand in ("a", "b")]
     names = sorted(chance.sample(pool, chance.randint(0, most)))
     book = []
     for at in names:
         other = chance.choice(names if chance.random() < 0.85 else pool)
         runs = runs_from(notes_of(random_runs(chance, 3, "ab", 0, 13))) or (("a", 3, 6),)
-        road = chance.choice(ROADS)
+        road = chance.choice(roads)
         word = chance.choice(("move", "move", "bag", "bag", "read", "read", "read", "count", "void"))
-        if word == "move":
+        if word == "move" or word == "bag" and not bag_roads:
             book.append(move(at, road[0], road[1], runs))
         elif word == "bag":
-            book.append(bag(at, *chance.choice([road for road in ROADS if road[0] != "none"]), chance.randint(1, 9)))
+            book.append(bag(at, *chance.choice(bag_roads), chance.randint(1, 9)))
         elif word == "read":
             book.append(read(at, other, runs))
         elif word == "count":
-            book.append(count(at, many=chance.randint(0, 9)))
+            book.append(count(at, road[1], chance.randint(0, 9)))
         else:
             book.append(void(at, other))
     return tuple(book)

@@ -22,6 +22,13 @@ INTERFACE = {
     },
     "steps": {"steps": 2, "seals": 2, "told_place": 2},
     "lasts": {"made": 1, "last_pages": 1},
+    "sums": {"seen": 2, "seen_sums": 3, "seen_worth": 3},
+    "balances": {"balance": 2, "moved": 3, "by_days": 2},
+    "reach": {"reach": 2, "road_row": 3, "far": 3},
+    "cuts": {"lets_cut": 4, "cut_of": 3},
+    "labels": {"lets_labels": 4, "labels_of": 3},
+    "falsechecker": {"lets_false": 4},
+    "falsehoods": {"false_paper": 3, "false_runs": 2},
 }
 
 
