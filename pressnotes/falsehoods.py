@@ -2,16 +2,10 @@
 
 from pressnotes.errors import NoWorld
 from pressnotes.falsechecker import is_early, is_in_seal
-from pressnotes.offices import places_of
-from pressnotes.reach import reach
+from pressnotes.reach import all_reaches
 from pressnotes.runs import runs_of
 from pressnotes.sets import both
 from pressnotes.steps import all_steps, steps
-
-
-def all_reaches(office):
-    """For each place of the office the SET of those that it comes to."""
-    return {place: reach(office, place) for place in places_of(office)}
 
 
 def lone_paper(reaches, step):

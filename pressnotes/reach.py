@@ -1,5 +1,7 @@
 """What leads where: the places that roads lead to, and the shortest rows of roads."""
 
+from pressnotes.offices import places_of
+
 
 def rows_from(office, place):
     """For each place that the place comes to a row of roads there, with the fewest places, by places."""
@@ -19,6 +21,11 @@ def rows_from(office, place):
 def reach(office, place):
     """The SET of the places that the place comes to, itself among them."""
     return tuple(sorted(rows_from(office, place)))
+
+
+def all_reaches(office):
+    """For each place of the office the SET of those that it comes to."""
+    return {place: reach(office, place) for place in places_of(office)}
 
 
 def road_row(office, one, other):

@@ -177,11 +177,11 @@ def distances(office):
     return {pair: many if many < 10 ** 6 else None for pair, many in found.items()}
 
 
-def random_office(chance, words=("none", "press", "bank", "post", "mint"), most=8):
+def random_office(chance, words=("none", "press", "bank", "post", "mint"), most=8, always=()):
     """An office of some roads between these places: in circles, dead ends, apart from none or not."""
     roads = [(one, other) for one in words for other in words if one != other and other != "none"]
     some = chance.sample(roads, chance.randint(1, min(most, len(roads))))
-    return ((("a", 5), ("b", 10)), tuple(sorted(some)))
+    return ((("a", 5), ("b", 10)), tuple(sorted(set(some) | set(always))))
 
 
 def is_row_of_roads(office, thing, one, other):

@@ -3,7 +3,9 @@
 import random
 
 from pressnotes.cuts import cut_of, lets_cut
-from tests.support import JUNK, PlainCase, all_sets, cut_due, distances, office_places, random_office, set_like, variants
+from tests.support import (
+    JUNK, PlainCase, all_sets, cut_due, distances, office_places, random_office, set_like, variants,
+)
 from tests.test_offices import OFFICE, ROADS, WORTHS
 
 

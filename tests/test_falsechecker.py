@@ -210,7 +210,8 @@ class SealTest(FalseCase):
     def test_pages(self):
         book = (
             bag(name(1)), bag(name(2)), count(name(3)), move(name(4), "bank", "post"), read(name(5), name(2)),
-            read(name(6), name(1), (("a", 4, 9),)), read(name(7), name(3)), void(name(8), name(9)), read(name(9), name(2)),
+            read(name(6), name(1), (("a", 4, 9),)), read(name(7), name(3)), void(name(8), name(9)),
+            read(name(9), name(2)),
         )
         self.due(("told", True), book, ("seal", name(5), name(4)))
         for wrong in (name(0), name(1), name(2), name(3), name(6), name(7), name(8), name(9), name(5, 1)):

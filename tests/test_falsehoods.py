@@ -31,27 +31,38 @@ def is_false_due(office, book, note):
     return any(end < begin for begin, end in sealed)
 
 
-def walk_suits(office, book, note):
-    """By the words of [3]: where the note can be, moment by moment, over all walks that suit so far."""
+def ends_of_walks(office, book, note, last_bag=None):
+    """By the words of [3]: the places to which walks of the note that suit lead, looked at moment by moment.
+
+    With the name of a counted bag: of walks that go by its road at its moment, too, and make no move behind it.
+    """
     told = steps_due(book, note)
     sealed = seals_due(book, note)
+    if last_bag is not None:
+        deed = dict(book)[last_bag]
+        told += ((last_bag, deed[1], deed[2], last_bag),)
     if any(not begin < end for begin, end in sealed):
-        return False
+        return set()
     can = {"none"}
     names = sorted({at for at, deed in book})
-    for at in names + [None]:
+    for k, at in enumerate(names + [None]):
         # The moments ahead of this name and behind the one before it: all of them are in a seal, or none is.
-        ahead = [other for other in names if at is None or other < at]
-        last = ahead[-1] if ahead else None
-        if not any(last is not None and begin <= last < end for begin, end in sealed):
+        last = names[k - 1] if k else None
+        is_sealed = any(last is not None and begin <= last < end for begin, end in sealed)
+        is_bagged = last_bag is not None and last is not None and last >= last_bag
+        if not is_sealed and not is_bagged:
             for _ in office[1]:
                 can |= {end for start, end in office[1] if start in can}
         here = [step for step in told if step[0] == at]
-        if here and any(begin < at < end for begin, end in sealed) or len(here) > 1:
-            return False
+        if here and (is_bagged or len(here) > 1 or any(begin < at < end for begin, end in sealed)):
+            return set()
         if here:
             can = {here[0][2]} if here[0][1] in can else set()
-    return bool(can)
+    return can
+
+
+def walk_suits(office, book, note):
+    return bool(ends_of_walks(office, book, note))
 
 
 class FalseTest(PlainCase):

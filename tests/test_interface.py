@@ -29,6 +29,12 @@ INTERFACE = {
     "labels": {"lets_labels": 4, "labels_of": 3},
     "falsechecker": {"lets_false": 4},
     "falsehoods": {"false_paper": 3, "false_runs": 2},
+    "gaps": {"gaps": 1, "unseen": 2},
+    "between": {"between": 4, "between_paper": 5, "lets_between": 6},
+    "bags": {"unread": 1, "supplies": 2, "supply_of": 2, "can_lie": 4},
+    "fillchecker": {"lets_filling": 3, "lets_short": 3},
+    "filling": {"filled": 2},
+    "whereabouts": {"can_be": 3, "where_paper": 4},
 }
 
 

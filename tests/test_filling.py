@@ -1,0 +1,195 @@
+"""Bags filled: points [56], [57] and [60]."""
+
+import itertools
+import random
+
+from pressnotes.errors import NoWorld
+from pressnotes.fillchecker import lets_filling, lets_short
+from pressnotes.filling import filled
+from tests.support import TOP, PlainCase, random_office
+from tests.test_bags import ALWAYS, bags_due, can_lie_due, supplies_due, true_book, unread_due
+from tests.test_books import bag, move, name, random_book, read, void
+from tests.test_falsehoods import ends_of_walks, is_false_due
+from tests.test_fillchecker import filling_due, short_due, wanted_due
+from tests.test_offices import OFFICE, WORTHS
+from tests.test_steps import ALL_NOTES, steps_due
+
+
+def choices_due(office, book):
+    """For each note with steps the bags of which it can be an unread one, and None for none: by walks alone."""
+    found = {}
+    for note in ALL_NOTES:
+        if steps_due(book, note):
+            bags = [at for at in bags_due(book) if ends_of_walks(office, book, note, at)]
+            found[note] = bags + [None]
+    return found
+
+
+def ways_to_lie(book, choices, notes):
+    """All tuples of how many of these notes lie in each counted bag, over all worlds' ways to lay them."""
+    want = unread_due(book)
+    found = {tuple(0 for _ in want)}
+    for note in notes:
+        more = set()
+        for way in found:
+            for choice in choices[note]:
+                laid = tuple(many + (at == choice) for many, (at, due) in zip(way, want))
+                if all(many <= due for many, (at, due) in zip(laid, want)):
+                    more.add(laid)
+        found = more
+    return found
+
+
+def has_world(office, book):
+    """Whether a world of the book is there, all of them gone through."""
+    choices = choices_due(office, book)
+    return tuple(many for at, many in unread_due(book)) in ways_to_lie(book, choices, list(choices))
+
+
+def all_fillings(office, book, most=3000):
+    """All FILLINGS of a book; None where there would be too many things to go through."""
+    want = wanted_due(book)
+    stock = supplies_due(book)
+    pairs = [(one, other) for one in stock for other in want if can_lie_due(office, book, one, other)]
+    sizes = [min(len(stock[one][1]), want[other]) + 1 for one, other in pairs]
+    total = 1
+    for size in sizes:
+        total *= size
+    if total > most:
+        return None
+    found = []
+    for many in itertools.product(*[range(size) for size in sizes]):
+        thing = sorted(pair + (some,) for pair, some in zip(pairs, many) if some)
+        if any(sum(some for one, other, some in thing if one == at) > len(stock[at][1]) for at in stock):
+            continue
+        if all(sum(some for one, other, some in thing if other == at) == want[at] for at in want):
+            found.append(tuple(thing))
+    return found
+
+
+class FilledTest(PlainCase):
+    def is_filled(self, book, office=OFFICE):
+        told = self.ask(filled, office, book)
+        self.assertIs(tuple, type(told))
+        word, thing = told
+        self.assertEqual("filled", word)
+        self.same(True, lets_filling, office, book, thing)
+        return thing
+
+    def is_short(self, book, office=OFFICE):
+        told = self.ask(filled, office, book)
+        self.assertIs(tuple, type(told))
+        word, thing = told
+        self.assertEqual("short", word)
+        self.same(True, lets_short, office, book, thing)
+        return thing
+
+    def test_nothing_to_fill(self):
+        spent = (move(name(1)), bag(name(2), many=2), read(name(3), name(2), (("a", 0, 2),)))
+        for book in ((), (move(name(1)),), spent):
+            self.same(("filled", ()), filled, OFFICE, book)
+
+    def test_one_way_alone(self):
+        book = (move(name(1)), bag(name(2), many=4))
+        self.same(("filled", ((name(1), name(2), 4),)), filled, OFFICE, book)
+        book = (move(name(1)), bag(name(2), many=2), move(name(3), "press", "bank", (("a", 0, 3),)),
+                bag(name(4), "bank", "post", 3))
+        self.same(("filled", ((name(1), name(2), 2), (name(3), name(4), 3))), filled, OFFICE, book)
+
+    def test_notes_must_be_handed_on(self):
+        # Filled in whatever order, the supply that both bags can take must be kept for the one that has no other.
+        book = (
+            move(name(1), runs=(("a", 0, 2),)), move(name(2), "press", "bank", (("b", 0, 2),)), bag(name(3), many=2),
+            bag(name(4), "bank", "post", 2),
+        )
+        self.assertEqual(((name(1), name(3), 2), (name(2), name(4), 2)), self.is_filled(book))
+        book = (
+            move(name(1), runs=(("a", 0, 2),)), bag(name(3), "bank", "post", 2),
+            move(name(4), "press", "bank", (("b", 0, 2),)), bag(name(6), "post", "bank", 2),
+        )
+        self.assertEqual(((name(1), name(3), 2), (name(4), name(6), 2)), self.is_filled(book))
+        office = (WORTHS, (("bank", "mint"), ("bank", "post"), ("none", "bank"), ("none", "press"), ("press", "bank")))
+        book = (
+            move(name(1), "none", "bank", (("a", 0, 3),)), move(name(2), runs=(("b", 0, 3),)),
+            bag(name(3), "bank", "post", 3), bag(name(4), "press", "bank", 3),
+        )
+        self.assertEqual(((name(1), name(3), 3), (name(2), name(4), 3)), self.is_filled(book, office))
+
+    def test_short(self):
+        self.assertEqual((name(2),), self.is_short((move(name(1)), bag(name(2), many=6))))
+        self.assertEqual((name(2),), self.is_short((bag(name(2), many=1), move(name(3)))))
+        self.assertEqual((name(2), name(3)), self.is_short((move(name(1)), bag(name(2), many=3), bag(name(3), many=3))))
+        # The bag of day 5 has its own notes and is none of those that are short.
+        book = (move(name(1)), bag(name(2), many=3), bag(name(3), many=3), move(name(4), runs=(("b", 0, 9),)),
+                bag(name(5), many=4))
+        self.assertEqual((name(2), name(3)), self.is_short(book))
+
+    def test_false_goes_ahead_of_over_and_over_ahead_of_short(self):
+        false = (move(name(1)), move(name(2)))
+        over = (bag(name(3), many=1), read(name(4), name(3), (("b", 0, 2),)))
+        short = (bag(name(5), many=99),)
+        for book in (false, false + over, false + short, false + over + short):
+            self.refused(NoWorld, {"word": "false"}, filled, OFFICE, book)
+        for book in (over, over + short, (move(name(1)),) + over, (move(name(1)),) + over + short):
+            self.refused(NoWorld, {"word": "over"}, filled, OFFICE, book)
+        self.is_short(short)
+        self.is_filled((move(name(1)),))
+
+    def test_voided_reads_are_not_over(self):
+        book = (move(name(1)), bag(name(3), many=1), read(name(4), name(3), (("b", 0, 2),)), void(name(5), name(4)))
+        self.assertEqual(((name(1), name(3), 1),), self.is_filled(book))
+
+    def test_great_numbers(self):
+        book = (
+            move(name(1), runs=(("a", 0, TOP),)), bag(name(2), many=TOP // 2), bag(name(3), "bank", "post", TOP // 2),
+            move(name(4), "press", "bank", (("b", 0, TOP),)), bag(name(5), "post", "bank", TOP - 1),
+            bag(name(6), "bank", "post", 1),
+        )
+        self.is_filled(book)
+        self.is_short(book + (bag(name(7), many=1),))
+        book = tuple(move(name(at), runs=(("a", at * 1000, at * 1000 + 999),)) for at in range(30))
+        book += tuple(bag(name(40, at), many=3 * 999 + at % 2) for at in range(8))
+        self.is_filled(book)
+        self.is_short(book[:-1] + (bag(name(40, 7), many=30 * 999 - 7 * 3 * 999 - 3 + 1),))
+        self.is_filled(book[:-1] + (bag(name(40, 7), many=30 * 999 - 7 * 3 * 999 - 3),))
+
+    def test_against_all_worlds(self):
+        chance = random.Random(211)
+        words = {"filled": 0, "short": 0, "many": 0}
+        for _ in range(400):
+            office = random_office(chance, most=4, always=ALWAYS)
+            book = true_book(chance, office, 12)
+            want = wanted_due(book)
+            if not want:
+                continue
+            word, thing = self.ask(filled, office, book)
+            words[word] += 1
+            words["many"] += word == "filled" and len(thing) > 1
+            self.assertEqual("filled" if has_world(office, book) else "short", word)
+            fillings = all_fillings(office, book)
+            if word == "filled":
+                self.assertEqual(("told", True), filling_due(office, book, thing))
+                self.same(True, lets_filling, office, book, thing)
+                self.assertTrue(fillings is None or thing in fillings)
+            else:
+                self.assertEqual(("told", True), short_due(office, book, thing))
+                self.same(True, lets_short, office, book, thing)
+                self.assertTrue(fillings is None or fillings == [])
+        self.assertGreater(min(words.values()), 20, words)
+
+    def test_refusals_of_random_books(self):
+        chance = random.Random(212)
+        words = {"false": 0, "over": 0, "none": 0}
+        for at in range(400):
+            office = random_office(chance, most=4, always=ALWAYS)
+            book = random_book(chance, 8, office[1]) if at % 2 else true_book(chance, office, 12, (-1, 0, 1))
+            if any(is_false_due(office, book, note) for note in ALL_NOTES):
+                words["false"] += 1
+                self.refused(NoWorld, {"word": "false"}, filled, office, book)
+            elif any(many < 0 for when, many in unread_due(book)):
+                words["over"] += 1
+                self.refused(NoWorld, {"word": "over"}, filled, office, book)
+            else:
+                words["none"] += 1
+                self.assertIn(self.ask(filled, office, book)[0], ("filled", "short"))
+        self.assertGreater(min(words.values()), 5, words)
