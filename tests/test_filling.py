@@ -115,6 +115,36 @@ class FilledTest(PlainCase):
         )
         self.assertEqual(((name(1), name(3), 3), (name(2), name(4), 3)), self.is_filled(book, office))
 
+    # Each place of three, p, q and r, comes to some of d and e alone; bags go from d, from e, and from p itself.
+    FORK = (WORTHS, (
+        ("d", "x"), ("e", "x"), ("none", "p"), ("none", "q"), ("none", "r"), ("p", "d"), ("q", "d"), ("q", "e"),
+        ("r", "e"),
+    ))
+
+    def forked(self, sizes, wants):
+        """Supplies of days 1 to 3 at p, q and r, and bags of days 4 to 6 from d, e and p, of so many notes."""
+        made = [move(name(at + 1), "none", "pqr"[at], (("a", 100 * at, 100 * at + sizes[at]),)) for at in range(3)]
+        return tuple(made) + (
+            bag(name(4), "d", "x", wants[0]), bag(name(5), "e", "x", wants[1]), bag(name(6), "p", "d", wants[2]))
+
+    def test_notes_are_handed_on_through_several_bags(self):
+        # Taken as they come, p's notes go to d and q's to e: both must change for the last bag, that only p can fill.
+        self.assertEqual(
+            ((name(1), name(6), 2), (name(2), name(4), 2), (name(3), name(5), 2)),
+            self.is_filled(self.forked((2, 2, 2), (2, 2, 2)), self.FORK))
+        self.assertEqual(
+            ((name(1), name(6), 9), (name(2), name(4), 7), (name(3), name(5), 8)),
+            self.is_filled(self.forked((9, 7, 8), (7, 8, 9)), self.FORK))
+        for sizes, wants in (((9, 9, 9), (8, 8, 8)), ((5, 9, 3), (6, 4, 5)), ((3, 6, 2), (4, 3, 2))):
+            self.is_filled(self.forked(sizes, wants), self.FORK)
+
+    def test_short_through_several_bags(self):
+        # No fewer bags than all three show it here.
+        self.assertEqual((name(4), name(5), name(6)), self.is_short(self.forked((2, 2, 2), (2, 3, 2)), self.FORK))
+        self.is_short(self.forked((2, 2, 2), (3, 2, 2)), self.FORK)
+        self.assertEqual((name(6),), self.is_short(self.forked((2, 9, 9), (2, 2, 3)), self.FORK))
+        self.assertEqual((name(5),), self.is_short(self.forked((9, 2, 2), (1, 5, 1)), self.FORK))
+
     def test_short(self):
         self.assertEqual((name(2),), self.is_short((move(name(1)), bag(name(2), many=6))))
         self.assertEqual((name(2),), self.is_short((bag(name(2), many=1), move(name(3)))))
@@ -175,6 +205,27 @@ class FilledTest(PlainCase):
                 self.assertEqual(("told", True), short_due(office, book, thing))
                 self.same(True, lets_short, office, book, thing)
                 self.assertTrue(fillings is None or fillings == [])
+        self.assertGreater(min(words.values()), 20, words)
+
+    def test_many_places_against_all_worlds(self):
+        chance = random.Random(213)
+        words = {"filled": 0, "short": 0}
+        for _ in range(300):
+            roads = [("none", place) for place in "pqr"]
+            roads += [pair for pair in itertools.combinations("pqrdex", 2) if chance.random() < 0.4]
+            office = (WORTHS, tuple(sorted(roads)))
+            bag_roads = [road for road in roads if road[0] != "none"]
+            if not bag_roads:
+                continue
+            book = [move(name(at), "none", chance.choice("pqr"), (("a", 2 * at, 2 * at + chance.randint(1, 2)),))
+                    for at in range(5)]
+            book += [bag(name(9, at), *chance.choice(bag_roads), chance.randint(1, 2)) for at in range(4)]
+            book = tuple(book)
+            word, thing = self.ask(filled, office, book)
+            words[word] += 1
+            self.assertEqual("filled" if has_world(office, book) else "short", word)
+            due = filling_due(office, book, thing) if word == "filled" else short_due(office, book, thing)
+            self.assertEqual(("told", True), due)
         self.assertGreater(min(words.values()), 20, words)
 
     def test_refusals_of_random_books(self):
