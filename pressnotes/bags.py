@@ -3,8 +3,9 @@
 from pressnotes.books import counted_bags, counted_pages
 from pressnotes.falsehoods import refuse_false
 from pressnotes.lasts import last_steps
-from pressnotes.reach import all_reaches
+from pressnotes.reach import all_reaches, far
 from pressnotes.runs import many_in
+from pressnotes.sets import both, of_series
 from pressnotes.steps import steps
 
 
@@ -26,6 +27,24 @@ def wanted(book):
 def stock_of(book):
     """By their names, rising, how many notes the supplies have."""
     return {name: many_in(runs) for name, place, runs in last_steps(book)}
+
+
+def parts_of(book, runs):
+    """By the supplies' names, rising, how many of their notes are of the runs and how many aren't."""
+    found = {}
+    for name, place, own in last_steps(book):
+        many = many_in(both(own, runs))
+        found[name] = (many, many_in(own) - many)
+    return found
+
+
+def stock_by_series(book):
+    """By (supply's name, series), rising, how many notes the supplies have of each series that they have."""
+    found = {}
+    for name, place, own in last_steps(book):
+        for run in own:
+            found[(name, run[0])] = many_in(of_series(own, run[0]))
+    return found
 
 
 def supplies(office, book):
@@ -59,6 +78,14 @@ def lying(office, book):
 def can_lie(office, book, name, bag):
     """Whether notes of the supply of this name can be unread ones of the counted bag of that name."""
     return name in lying(office, book).get(bag, [])
+
+
+def lengths(office, book):
+    """By (supply, bag), for each supply that can lie in the bag: how FAR the bag's from is from the supply's place."""
+    bags = counted_bags(book)
+    lies = lying(office, book)
+    places = {name: place for name, place, runs in last_steps(book)}
+    return {(name, bag): far(office, places[name], bags[bag][1]) for bag in lies for name in lies[bag]}
 
 
 def can_take(stock, lies, names):

@@ -33,23 +33,43 @@ def sums_by(rows, at):
     return sums
 
 
+def can_stand(want, lies, row):
+    """Whether a row's supply, its first thing, can lie in its bag, the second, and the bag has unread ones."""
+    return row[1] in want and row[0] in lies[row[1]]
+
+
+def refuse_rows(want, lies, rows):
+    """Refuses rows whose supply and bag can't stand together."""
+    for k, row in enumerate(rows):
+        if not can_stand(want, lies, row):
+            raise NoPaper("row", k)
+
+
+def refuse_bags(want, got):
+    """Refuses what the bags got, by their names, where it isn't just what they want."""
+    for k, (bag, many) in enumerate(want.items()):
+        if got.get(bag, 0) != many:
+            raise NoPaper("bag", k)
+
+
+def refuse_names(bags, names):
+    """Refuses names that are none of these bags'."""
+    for k, name in enumerate(names):
+        if name not in bags:
+            raise NoPaper("names", k)
+
+
 def lets_filling(office, book, thing):
     """True of a FILLING; any other thing is refused."""
     if not is_filling_like(thing):
         raise NoPaper("shape", -1)
     want = wanted(book)
-    lies = lying(office, book)
-    for k, (name, bag, many) in enumerate(thing):
-        if bag not in want or name not in lies[bag]:
-            raise NoPaper("row", k)
+    refuse_rows(want, lying(office, book), thing)
     given = sums_by(thing, 0)
     for k, (name, many) in enumerate(stock_of(book).items()):
         if given.get(name, 0) > many:
             raise NoPaper("supply", k)
-    got = sums_by(thing, 1)
-    for k, (bag, many) in enumerate(want.items()):
-        if got.get(bag, 0) != many:
-            raise NoPaper("bag", k)
+    refuse_bags(want, sums_by(thing, 1))
     return True
 
 
@@ -58,9 +78,7 @@ def lets_short(office, book, thing):
     if not is_names(thing):
         raise NoPaper("shape", -1)
     want = wanted(book)
-    for k, name in enumerate(thing):
-        if name not in want:
-            raise NoPaper("names", k)
+    refuse_names(want, thing)
     if sum(want[name] for name in thing) <= can_take(stock_of(book), lying(office, book), thing):
         raise NoPaper("enough", -1)
     return True

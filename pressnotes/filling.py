@@ -48,18 +48,35 @@ def push(given, left, lack, chain):
     return many
 
 
+def fill(given, left, lies, bag, lack):
+    """Hands a bag what it lacks as far as can be: (how many it lacks still, the bags that bar it from more)."""
+    while lack > 0:
+        chain, found = seek(lies, given, left, bag)
+        if chain is None:
+            return (lack, found)
+        lack -= push(given, left, lack, chain)
+    return (0, [])
+
+
 def poured(stock, want, lies):
     """Gives each bag what it wants: (how many by (supply, bag), None), or (None, BAGS that want more than they can)."""
     given = {}
     left = {name: stock[name] for name in stock}
     for bag in want:
-        lack = want[bag]
-        while lack > 0:
-            chain, found = seek(lies, given, left, bag)
-            if chain is None:
-                return (None, tuple(sorted(found)))
-            lack -= push(given, left, lack, chain)
+        lack, found = fill(given, left, lies, bag, want[bag])
+        if lack > 0:
+            return (None, tuple(sorted(found)))
     return (given, None)
+
+
+def store_of(office, book):
+    """What the supplies have, what the bags want, and which supplies can lie in which; refused without a world."""
+    refuse_unfit(office, book)
+    store = (stock_of(book), wanted(book), lying(office, book))
+    given, short = poured(store[0], store[1], store[2])
+    if given is None:
+        raise NoWorld("short")
+    return store
 
 
 def rows_of(given):

@@ -49,3 +49,8 @@ def worth_of(office, series):
         if name == series:
             return worth
     return 0
+
+
+def levels_of(office):
+    """The unlike worths of the office, rising."""
+    return sorted({worth for series, worth in office[0]})

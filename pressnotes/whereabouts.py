@@ -1,23 +1,12 @@
 """Where a missing note can be: in a bag that nobody has read through, or at a place."""
 
-from pressnotes.bags import lying, stock_of, supply_of, wanted
+from pressnotes.bags import supply_of
 from pressnotes.books import counted_bags
 from pressnotes.cuts import cut_of
-from pressnotes.errors import NoWorld
-from pressnotes.filling import poured, refuse_unfit, rows_of
+from pressnotes.filling import poured, rows_of, store_of
 from pressnotes.offices import places_of
 from pressnotes.reach import road_row
 from pressnotes.steps import told_place
-
-
-def store_of(office, book):
-    """What the supplies have, what the bags want, and which supplies can lie in which; refused without a world."""
-    refuse_unfit(office, book)
-    store = (stock_of(book), wanted(book), lying(office, book))
-    given, short = poured(store[0], store[1], store[2])
-    if given is None:
-        raise NoWorld("short")
-    return store
 
 
 def with_one_less(counts, name):

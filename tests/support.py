@@ -1,6 +1,7 @@
 """What all tests share: strict comparing, any things, notes counted one by one."""
 
 import copy
+import functools
 import re
 import signal
 import unittest
@@ -164,6 +165,7 @@ def office_places(office):
     return sorted({"none"} | {place for road in office[1] for place in road})
 
 
+@functools.lru_cache(2000)
 def distances(office):
     """The fewest roads from each place of an office to each, None where none lead there: Floyd's way."""
     places = office_places(office)

@@ -1,5 +1,6 @@
 """Unread notes, supplies, and what can lie in a bag: point [55], with [57]."""
 
+import functools
 import random
 
 from pressnotes.bags import can_lie, supplies, supply_of, unread
@@ -68,12 +69,14 @@ def true_book(chance, office, most=9, extras=(0, 0, 1, 2, 3), notes=tuple(SOME_N
     return tuple(pages[when] for when in sorted(pages))
 
 
+@functools.lru_cache(2000)
 def bags_due(book):
     """The counted bags: their deeds by names, rising."""
     pages = dict(book)
     return {at: pages[at] for at in names_due(book, "counted") if pages[at][0] == "bag"}
 
 
+@functools.lru_cache(2000)
 def unread_due(book):
     pages = dict(book)
     found = []
@@ -83,6 +86,7 @@ def unread_due(book):
     return tuple(found)
 
 
+@functools.lru_cache(2000)
 def supplies_due(book):
     """The supplies, note by note: by names rising (the place, the notes)."""
     found = {}

@@ -1,5 +1,6 @@
 """Books: points [3], [25] to [29]."""
 
+import functools
 import random
 
 from pressnotes.books import book_of, counted, is_book, joined, until, voided, waiting
@@ -84,6 +85,7 @@ def standing_due(book):
     return found
 
 
+@functools.lru_cache(2000)
 def names_due(book, word):
     found = standing_due(book)
     return tuple(sorted(at for at in found if found[at] == word))

@@ -1,5 +1,6 @@
 """What pages tell of a note: points [30] to [32]."""
 
+import functools
 import random
 
 from pressnotes.books import until
@@ -8,9 +9,10 @@ from tests.support import TOP, PlainCase, notes_of
 from tests.test_books import bag, count, move, name, names_due, random_book, read, void
 
 NOTE = ("a", 3)
-ALL_NOTES = notes_of((("a", 0, 14), ("b", 0, 14)))
+ALL_NOTES = notes_of((("a", 0, 14), ("b", 0, 14), ("c", 0, 4), ("d", 0, 4)))
 
 
+@functools.lru_cache(20000)
 def steps_due(book, note):
     """The steps by the words of [3], page by page."""
     pages = dict(book)

@@ -5,15 +5,15 @@ import random
 from pressnotes.errors import NoWorld
 from pressnotes.filling import filled
 from pressnotes.whereabouts import can_be, where_paper
-from tests.support import TOP, PlainCase, cut_due, office_places, random_office, set_like
-from tests.test_bags import ALWAYS, SOME_NOTES, bags_due, can_lie_due, supplies_due, true_book, unread_due
+from pressnotes.wherechecker import lets_where
+from tests.support import TOP, PlainCase, office_places, random_office
+from tests.test_bags import ALWAYS, SOME_NOTES, bags_due, true_book, unread_due
 from tests.test_books import bag, move, name, random_book, read, void
 from tests.test_falsehoods import ends_of_walks, is_false_due
-from tests.test_fillchecker import can_take_due, filling_due, wanted_due
 from tests.test_filling import choices_due, has_world, ways_to_lie
 from tests.test_offices import OFFICE, WORTHS
-from tests.test_pages import name_like
 from tests.test_steps import ALL_NOTES, steps_due
+from tests.test_wherechecker import where_due
 
 LINE = (WORTHS, (("bank", "post"), ("none", "press"), ("press", "bank"), ("press", "mint")))
 
@@ -35,61 +35,6 @@ def answers_due(office, book, note):
     return found
 
 
-def way_is_right(office, way, start, place):
-    if type(way) is not tuple or not way or way[0] != start or way[-1] != place:
-        return False
-    return all((way[k - 1], way[k]) in office[1] for k in range(1, len(way)))
-
-
-def shown_in(office, book, answer, supply, paper):
-    """The truth that an "in" or "free" paper shows; None where [62] refuses it."""
-    place = supplies_due(book)[supply][0]
-    if filling_due(office, book, paper[1]) != ("told", True):
-        return None
-    if paper[0] == "in":
-        return True if answer[0] == "bag" and any(row[:2] == (supply, answer[1]) for row in paper[1]) else None
-    taken = sum(many for one, other, many in paper[1] if one == supply)
-    if answer[0] != "at" or taken >= len(supplies_due(book)[supply][1]):
-        return None
-    return True if way_is_right(office, paper[2], place, answer[1]) else None
-
-
-def shown_tight(office, book, answer, supply, names):
-    want = wanted_due(book)
-    if type(names) is not tuple or not all(name_like(at) for at in names) or list(names) != sorted(set(names)):
-        return None
-    if any(at not in want or ("bag", at) == answer for at in names):
-        return None
-    if not any(can_lie_due(office, book, supply, at) for at in names):
-        return None
-    return False if sum(want[at] for at in names) == can_take_due(office, book, names) else None
-
-
-def shown_due(office, book, note, answer, paper):
-    """The truth that a paper shows by the words of [62]; None where it is refused."""
-    sizes = {"unmade": 1, "in": 2, "free": 3, "late": 1, "spent": 1, "cut": 2, "tight": 2}
-    if type(paper) is not tuple or not paper or sizes.get(paper[0]) != len(paper):
-        return None
-    told = steps_due(book, note)
-    if paper[0] == "unmade":
-        return None if told else answer == ("at", "none")
-    if not told:
-        return None
-    supply, place = told[-1][3], told[-1][2]
-    if paper[0] in ("in", "free"):
-        return shown_in(office, book, answer, supply, paper)
-    if paper[0] == "late":
-        return None if answer[0] != "bag" or supply < answer[1] else False
-    if paper[0] == "spent":
-        return None if answer[0] != "bag" or answer[1] in wanted_due(book) else False
-    if paper[0] == "cut":
-        other = bags_due(book)[answer[1]][1] if answer[0] == "bag" else answer[1]
-        if not set_like(office, paper[1]):
-            return None
-        return False if cut_due(office, place, other, paper[1]) == ("told", True) else None
-    return shown_tight(office, book, answer, supply, paper[1])
-
-
 class WhereCase(PlainCase):
     def answers(self, due, book, note, office=OFFICE):
         """Just these answers are told, and each other one is shown not to be, too."""
@@ -100,7 +45,8 @@ class WhereCase(PlainCase):
             self.assertIs(tuple, type(told))
             truth, paper = told
             self.assertIs(answer in due, truth, (book, note, answer))
-            self.assertIs(truth, shown_due(office, book, note, answer, paper), (book, note, answer, paper))
+            self.assertEqual(("told", truth), where_due(office, book, note, answer, paper), (book, note, answer))
+            self.same(truth, lets_where, office, book, note, answer, paper)
             words[answer] = paper[0]
         return words
 
