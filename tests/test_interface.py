@@ -35,6 +35,12 @@ INTERFACE = {
     "fillchecker": {"lets_filling": 3, "lets_short": 3},
     "filling": {"filled": 2},
     "whereabouts": {"can_be": 3, "where_paper": 4},
+    "wherechecker": {"lets_where": 5},
+    "manyin": {"most_in": 4, "least_in": 4},
+    "manychecker": {"lets_most": 5, "lets_least": 5},
+    "worths": {"worth_between": 2, "worth_papers": 2},
+    "worthchecker": {"lets_worth": 4},
+    "prices": {"fewest": 2},
 }
 
 
