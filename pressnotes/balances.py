@@ -14,15 +14,20 @@ def brought(deed, place, many):
     return 0
 
 
+def traffic(book, place):
+    """The counted moves and bags that begin or end at the place: their names, and how many they bring or take."""
+    found = []
+    for name, deed in counted_pages(book):
+        if deed[0] == "move" and place in deed[1:3]:
+            found.append((name, brought(deed, place, many_in(deed[3]))))
+        elif deed[0] == "bag" and place in deed[1:3]:
+            found.append((name, brought(deed, place, deed[3])))
+    return found
+
+
 def balance(book, place):
     """What the counted moves and bags to the place have, less what those from it have."""
-    total = 0
-    for name, deed in counted_pages(book):
-        if deed[0] == "move":
-            total += brought(deed, place, many_in(deed[3]))
-        elif deed[0] == "bag":
-            total += brought(deed, place, deed[3])
-    return total
+    return sum(many for name, many in traffic(book, place))
 
 
 def moved(book, place, series):

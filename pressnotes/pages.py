@@ -1,6 +1,6 @@
 """Names and pages: what each deed of a page must be made of."""
 
-from pressnotes.kinds import is_from_to, is_tuple_of, is_word
+from pressnotes.kinds import is_from_to, is_number, is_tuple_of, is_word
 from pressnotes.offices import places_of, worth_of
 from pressnotes.runs import is_runs
 
@@ -11,6 +11,13 @@ def is_name(thing):
         return False
     day, number, hand = thing
     return is_from_to(day, 0, 99999) and is_from_to(number, 0, 999) and is_word(hand)
+
+
+def is_numbered(thing):
+    """Whether it is a tuple of tuples of a NAME and a NUMBER."""
+    if not isinstance(thing, tuple) or not all(is_tuple_of(pair, 2) for pair in thing):
+        return False
+    return all(is_name(name) and is_number(number) for name, number in thing)
 
 
 def is_named_runs(office, thing):
