@@ -143,7 +143,8 @@ class FirstOffTest(PlainCase):
         book = (move(name(1)), count(name(2), "press", 7), count(name(3), "press", 7))
         self.same((None, name(2)), first_off, book, "press")
         # Voided ones are no neighbours.
-        book = (count(name(2), "press", 0), count(name(3), "press", 9), count(name(4), "press", 1), void(name(5), name(3)))
+        book = (count(name(2), "press", 0), count(name(3), "press", 9), count(name(4), "press", 1),
+                void(name(5), name(3)))
         self.same((name(2), name(4)), first_off, book, "press")
 
 
@@ -195,8 +196,10 @@ class LetsOffsTest(PlainCase):
         one, two, three = PAPER
         for k, thing in (
             (0, ((name(1), 5),)), (0, ((name(3), 9),)), (0, ((name(5), 9),)), (1, (one, one)), (1, (two, one)),
-            (2, (one, two, two)), (2, (one, two, one)), (2, (one, two, (name(4, 1), 1))), (3, PAPER + ((name(13), -4),)),
-            (3, PAPER + ((name(9), 0),)), (0, ((name(0), BIG),) + PAPER), (0, ((name(13), -4),)), (1, (three, one, two)),
+            (2, (one, two, two)), (2, (one, two, one)), (2, (one, two, (name(4, 1), 1))),
+            (3, PAPER + ((name(13), -4),)),
+            (3, PAPER + ((name(9), 0),)), (0, ((name(0), BIG),) + PAPER), (0, ((name(13), -4),)),
+            (1, (three, one, two)),
             (2, (one, two, (name(7), 6), three)), (1, (one, (name(2, 0, "b"), 5))),
         ):
             self.due(("page", k), thing)

@@ -67,6 +67,27 @@ def all_fillings(office, book, most=3000):
     return found
 
 
+FALSE = (move(name(1)), move(name(2)))
+OVER = (bag(name(3), many=1), read(name(4), name(3), (("b", 0, 2),)))
+SHORT = (bag(name(5), many=99),)
+# Books of which no world is told, with the word that goes ahead.
+REFUSED = tuple(("false", FALSE + more) for more in ((), OVER, SHORT, OVER + SHORT)) + (
+    ("over", OVER), ("over", OVER + SHORT), ("over", FALSE[:1] + OVER + SHORT), ("short", SHORT),
+    ("short", FALSE[:1] + SHORT),
+)
+
+
+def random_refused(chance, many):
+    """Random offices and books by which a note is false or a bag over, with the word that is due."""
+    for at in range(many):
+        office = random_office(chance, most=4, always=ALWAYS)
+        book = random_book(chance, 8, office[1]) if at % 2 else true_book(chance, office, 12, (-1, 0, 1))
+        if any(is_false_due(office, book, note) for note in ALL_NOTES):
+            yield ("false", office, book)
+        elif any(unread_many < 0 for when, unread_many in unread_due(book)):
+            yield ("over", office, book)
+
+
 class FilledTest(PlainCase):
     def is_filled(self, book, office=OFFICE):
         told = self.ask(filled, office, book)
@@ -154,16 +175,13 @@ class FilledTest(PlainCase):
                 bag(name(5), many=4))
         self.assertEqual((name(2), name(3)), self.is_short(book))
 
-    def test_false_goes_ahead_of_over_and_over_ahead_of_short(self):
-        false = (move(name(1)), move(name(2)))
-        over = (bag(name(3), many=1), read(name(4), name(3), (("b", 0, 2),)))
-        short = (bag(name(5), many=99),)
-        for book in (false, false + over, false + short, false + over + short):
-            self.refused(NoWorld, {"word": "false"}, filled, OFFICE, book)
-        for book in (over, over + short, (move(name(1)),) + over, (move(name(1)),) + over + short):
-            self.refused(NoWorld, {"word": "over"}, filled, OFFICE, book)
-        self.is_short(short)
-        self.is_filled((move(name(1)),))
+    def test_false_goes_ahead_of_over(self):
+        for word, book in REFUSED:
+            if word != "short":
+                self.refused(NoWorld, {"word": word}, filled, OFFICE, book)
+            else:
+                self.is_short(book)
+        self.is_filled(FALSE[:1])
 
     def test_voided_reads_are_not_over(self):
         book = (move(name(1)), bag(name(3), many=1), read(name(4), name(3), (("b", 0, 2),)), void(name(5), name(4)))
@@ -229,18 +247,8 @@ class FilledTest(PlainCase):
         self.assertGreater(min(words.values()), 20, words)
 
     def test_refusals_of_random_books(self):
-        chance = random.Random(212)
-        words = {"false": 0, "over": 0, "none": 0}
-        for at in range(400):
-            office = random_office(chance, most=4, always=ALWAYS)
-            book = random_book(chance, 8, office[1]) if at % 2 else true_book(chance, office, 12, (-1, 0, 1))
-            if any(is_false_due(office, book, note) for note in ALL_NOTES):
-                words["false"] += 1
-                self.refused(NoWorld, {"word": "false"}, filled, office, book)
-            elif any(many < 0 for when, many in unread_due(book)):
-                words["over"] += 1
-                self.refused(NoWorld, {"word": "over"}, filled, office, book)
-            else:
-                words["none"] += 1
-                self.assertIn(self.ask(filled, office, book)[0], ("filled", "short"))
+        words = {"false": 0, "over": 0}
+        for word, office, book in random_refused(random.Random(212), 400):
+            words[word] += 1
+            self.refused(NoWorld, {"word": word}, filled, office, book)
         self.assertGreater(min(words.values()), 5, words)

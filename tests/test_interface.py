@@ -41,6 +41,16 @@ INTERFACE = {
     "worths": {"worth_between": 2, "worth_papers": 2},
     "worthchecker": {"lets_worth": 4},
     "prices": {"fewest": 2},
+    "pricechecker": {"lets_prices": 3, "lets_cost": 3},
+    "counts": {"offs": 2, "off_paper": 4, "lets_offs": 5, "first_off": 2},
+    "texts": {"shown_runs": 1, "shown_row": 1, "shown_name": 1, "shown_page": 1, "shown_book": 1},
+    "readings": {"read_runs": 1, "read_row_text": 1, "read_page": 2, "read_book": 2},
+    "naming": {"renamed": 2, "renamed_book": 2, "moved_days": 2},
+}
+# The classes with how many arguments each is made of, and their methods.
+CLASSES = {
+    ("ledger", "Ledger"): (1, {"tell": 1, "back": 0, "book": 0, "then": 1, "told": 0, "take_in": 1}),
+    ("desk", "Desk"): (0, {"say": 1}),
 }
 
 
@@ -53,3 +63,13 @@ class InterfaceTest(unittest.TestCase):
                 self.assertTrue(inspect.isfunction(function), name)
                 # Raises TypeError where so many arguments by place don't fit.
                 inspect.signature(function).bind(*range(many))
+
+    def test_classes_have_what_is_listed(self):
+        for (module, name), (many, methods) in CLASSES.items():
+            made = getattr(importlib.import_module("pressnotes." + module), name)
+            self.assertTrue(inspect.isclass(made), name)
+            inspect.signature(made).bind(*range(many))
+            for method, things in methods.items():
+                # In the class itself, not only in a base class.
+                self.assertIn(method, vars(made))
+                inspect.signature(vars(made)[method]).bind(None, *range(things))

@@ -9,13 +9,11 @@ from pressnotes.manyin import least_in, most_in
 from tests import test_filling
 from tests.support import TOP, PlainCase, notes_of, random_office, runs_from
 from tests.test_bags import ALWAYS, SOME_NOTES, bags_due, true_book, unread_due
-from tests.test_books import bag, move, name, random_book, read, void
-from tests.test_falsehoods import is_false_due
+from tests.test_books import bag, move, name, read, void
 from tests.test_fillchecker import BOOK
-from tests.test_filling import choices_due, has_world
+from tests.test_filling import REFUSED, choices_due, has_world, random_refused
 from tests.test_manychecker import RUNS, many_due
 from tests.test_offices import OFFICE, WORTHS
-from tests.test_steps import ALL_NOTES
 
 
 def sums_due(office, book, worth):
@@ -123,16 +121,10 @@ class ManyInTest(ManyInCase):
             self.is_told(least, most, book, (("a", 0, size),) if size else (), name(2))
 
     def test_refusals_in_their_order(self):
-        false = (move(name(1)), move(name(2)))
-        over = (bag(name(3), many=1), read(name(4), name(3), (("b", 0, 2),)))
-        short = (bag(name(5), many=99),)
-        for runs in ((), (("a", 0, 5),)):
-            for book in (false + over, false + short, false + over + short):
-                self.is_refused("false", book, runs, book[2][0])
-            for book in (over, over + short, (move(name(1)),) + over + short):
-                self.is_refused("over", book, runs, name(3))
-            for book in (short, (move(name(1)),) + short):
-                self.is_refused("short", book, runs, name(5))
+        for word, book in REFUSED:
+            for at in bags_due(book):
+                for runs in ((), (("a", 0, 5),)):
+                    self.is_refused(word, book, runs, at)
 
     def test_great_numbers(self):
         book = (
@@ -211,19 +203,9 @@ class RandomTest(ManyInCase):
         self.assertGreater(min(seen.values()), 15, seen)
 
     def test_refusals_of_random_books(self):
-        chance = random.Random(253)
         words = {"false": 0, "over": 0}
-        for at in range(500):
-            office = random_office(chance, most=4, always=ALWAYS)
-            book = random_book(chance, 8, office[1]) if at % 2 else true_book(chance, office, 12, (-1, 0, 1))
-            if not bags_due(book):
-                continue
-            if any(is_false_due(office, book, note) for note in ALL_NOTES):
-                word = "false"
-            elif any(many < 0 for when, many in unread_due(book)):
-                word = "over"
-            else:
-                continue
-            words[word] += 1
-            self.is_refused(word, book, (("a", 0, 3),), chance.choice(list(bags_due(book))), office)
+        for word, office, book in random_refused(random.Random(253), 400):
+            for at in bags_due(book):
+                words[word] += 1
+                self.is_refused(word, book, (("a", 0, 3),), at, office)
         self.assertGreater(min(words.values()), 5, words)

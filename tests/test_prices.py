@@ -7,14 +7,12 @@ from pressnotes.fillchecker import lets_filling
 from pressnotes.prices import fewest
 from tests import test_filling
 from tests.support import TOP, PlainCase, distances, random_office
-from tests.test_bags import ALWAYS, bags_due, can_lie_due, supplies_due, true_book, unread_due
-from tests.test_books import bag, move, name, random_book, read, void
-from tests.test_falsehoods import is_false_due
+from tests.test_bags import ALWAYS, bags_due, can_lie_due, supplies_due, true_book
+from tests.test_books import bag, move, name, read, void
 from tests.test_fillchecker import BOOK, filling_due, wanted_due
-from tests.test_filling import all_fillings, has_world
+from tests.test_filling import REFUSED, all_fillings, has_world, random_refused
 from tests.test_offices import OFFICE, WORTHS
 from tests.test_pages import name_like
-from tests.test_steps import ALL_NOTES
 
 
 def length_due(office, book, supply, at):
@@ -127,15 +125,8 @@ class FewestTest(FewestCase):
         self.is_told(2 * 0 + 1 * 1 + 2 * 2, book, LINE)
 
     def test_refusals_in_their_order(self):
-        false = (move(name(1)), move(name(2)))
-        over = (bag(name(3), many=1), read(name(4), name(3), (("b", 0, 2),)))
-        short = (bag(name(5), many=99),)
-        for book in (false, false + over, false + short, false + over + short):
-            self.is_refused("false", book)
-        for book in (over, over + short, (move(name(1)),) + over + short):
-            self.is_refused("over", book)
-        for book in (short, (move(name(1)),) + short):
-            self.is_refused("short", book)
+        for word, book in REFUSED:
+            self.is_refused(word, book)
 
     def test_void_and_waiting_pages(self):
         book = (move(name(1)), bag(name(2), many=2), bag(name(3), many=9), void(name(4), name(3)),
@@ -244,15 +235,8 @@ class RandomTest(FewestCase):
         self.assertGreater(min(seen.values()), 20, seen)
 
     def test_refusals_of_random_books(self):
-        chance = random.Random(284)
         words = {"false": 0, "over": 0}
-        for at in range(500):
-            office = random_office(chance, most=4, always=ALWAYS)
-            book = random_book(chance, 8, office[1]) if at % 2 else true_book(chance, office, 12, (-1, 0, 1))
-            if any(is_false_due(office, book, note) for note in ALL_NOTES):
-                words["false"] += 1
-                self.is_refused("false", book, office)
-            elif any(many < 0 for when, many in unread_due(book)):
-                words["over"] += 1
-                self.is_refused("over", book, office)
-        self.assertGreater(min(words.values()), 3, words)
+        for word, office, book in random_refused(random.Random(284), 400):
+            words[word] += 1
+            self.is_refused(word, book, office)
+        self.assertGreater(min(words.values()), 5, words)

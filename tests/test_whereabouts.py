@@ -3,16 +3,15 @@
 import random
 
 from pressnotes.errors import NoWorld
-from pressnotes.filling import filled
 from pressnotes.whereabouts import can_be, where_paper
 from pressnotes.wherechecker import lets_where
 from tests.support import TOP, PlainCase, office_places, random_office
 from tests.test_bags import ALWAYS, SOME_NOTES, bags_due, true_book, unread_due
-from tests.test_books import bag, move, name, random_book, read, void
+from tests.test_books import bag, move, name, read, void
 from tests.test_falsehoods import ends_of_walks, is_false_due
-from tests.test_filling import choices_due, has_world, ways_to_lie
+from tests.test_filling import REFUSED, choices_due, has_world, random_refused, ways_to_lie
 from tests.test_offices import OFFICE, WORTHS
-from tests.test_steps import ALL_NOTES, steps_due
+from tests.test_steps import steps_due
 from tests.test_wherechecker import where_due
 
 LINE = (WORTHS, (("bank", "post"), ("none", "press"), ("press", "bank"), ("press", "mint")))
@@ -127,17 +126,9 @@ class CanBeTest(WhereCase):
         self.answers([("bag", name(4)), ("at", "bank"), ("at", "post")], book, ("b", 0), office)
 
     def test_refusals_in_their_order(self):
-        false = (move(name(1)), move(name(2)))
-        over = (bag(name(3), many=1), read(name(4), name(3), (("b", 0, 2),)))
-        short = (bag(name(5), many=99),)
-        for book in (false, false + over, false + short, false + over + short):
-            self.is_refused("false", book)
-        for book in (over, over + short, (move(name(1)),) + over + short):
-            self.is_refused("over", book)
-        for book in (short, (move(name(1)),) + short):
-            self.is_refused("short", book)
-        # A note without steps is refused likewise.
-        for book, word in ((false, "false"), (over, "over"), (short, "short")):
+        for word, book in REFUSED:
+            self.is_refused(word, book)
+            # A note without steps is refused likewise.
             self.is_refused(word, book, note=("c", 0))
 
     def test_great_numbers(self):
@@ -212,18 +203,8 @@ class RandomTest(WhereCase):
             self.assertGreater(words.get(pair, 0), 5, words)
 
     def test_refusals_of_random_books(self):
-        chance = random.Random(223)
-        words = {"false": 0, "over": 0, "short": 0, "filled": 0}
-        for at in range(200):
-            office = random_office(chance, most=4, always=ALWAYS)
-            book = random_book(chance, 8, office[1]) if at % 2 else true_book(chance, office, 12, (-1, 0, 1))
-            if any(is_false_due(office, book, note) for note in ALL_NOTES):
-                word = "false"
-            elif any(many < 0 for when, many in unread_due(book)):
-                word = "over"
-            else:
-                word = filled(office, book)[0]
+        words = {"false": 0, "over": 0}
+        for word, office, book in random_refused(random.Random(223), 300):
             words[word] += 1
-            if word != "filled":
-                self.is_refused(word, book, office)
+            self.is_refused(word, book, office)
         self.assertGreater(min(words.values()), 3, words)

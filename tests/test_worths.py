@@ -7,14 +7,12 @@ from pressnotes.worthchecker import lets_worth
 from pressnotes.worths import worth_between, worth_papers
 from tests import test_filling
 from tests.support import TOP, PlainCase, random_office
-from tests.test_bags import ALWAYS, true_book, unread_due
-from tests.test_books import bag, move, name, random_book, read, void
-from tests.test_falsehoods import is_false_due
+from tests.test_bags import ALWAYS, true_book
+from tests.test_books import bag, move, name, read, void
 from tests.test_fillchecker import wanted_due
-from tests.test_filling import has_world
+from tests.test_filling import REFUSED, has_world, random_refused
 from tests.test_manyin import sums_due
 from tests.test_offices import OFFICE, ROADS
-from tests.test_steps import ALL_NOTES
 from tests.test_worthchecker import BOOK, FOUR, NOTES_OF_FOUR, worth_due
 
 
@@ -92,15 +90,8 @@ class WorthsTest(WorthsCase):
         self.is_told(4 * 1 + 2 * 5, 4 * 1 + 2 * 5, book[:1] + book[2:], ((("a", 1), ("c", 5)), roads))
 
     def test_refusals_in_their_order(self):
-        false = (move(name(1)), move(name(2)))
-        over = (bag(name(3), many=1), read(name(4), name(3), (("b", 0, 2),)))
-        short = (bag(name(5), many=99),)
-        for book in (false, false + over, false + short, false + over + short):
-            self.is_refused("false", book)
-        for book in (over, over + short, (move(name(1)),) + over + short):
-            self.is_refused("over", book)
-        for book in (short, (move(name(1)),) + short):
-            self.is_refused("short", book)
+        for word, book in REFUSED:
+            self.is_refused(word, book)
 
     def test_great_numbers(self):
         office = ((("a", 1), ("b", 1000000), ("c", 3)), ROADS)
@@ -167,15 +158,8 @@ class RandomTest(WorthsCase):
         self.assertGreater(min(seen.values()), 8, seen)
 
     def test_refusals_of_random_books(self):
-        chance = random.Random(273)
         words = {"false": 0, "over": 0}
-        for at in range(500):
-            office = random_office(chance, most=4, always=ALWAYS)
-            book = random_book(chance, 8, office[1]) if at % 2 else true_book(chance, office, 12, (-1, 0, 1))
-            if any(is_false_due(office, book, note) for note in ALL_NOTES):
-                words["false"] += 1
-                self.is_refused("false", book, office)
-            elif any(many < 0 for when, many in unread_due(book)):
-                words["over"] += 1
-                self.is_refused("over", book, office)
-        self.assertGreater(min(words.values()), 3, words)
+        for word, office, book in random_refused(random.Random(273), 400):
+            words[word] += 1
+            self.is_refused(word, book, office)
+        self.assertGreater(min(words.values()), 5, words)
