@@ -5,7 +5,7 @@ import random
 
 from pressnotes.bags import can_lie, supplies, supply_of, unread
 from pressnotes.errors import NoWorld
-from tests.support import TOP, PlainCase, distances, notes_of, random_office, runs_from
+from tests.support import TOP, PlainCase, distances, notes_of, office_places, random_office, runs_from
 from tests.test_books import bag, count, move, name, names_due, random_book, read, void
 from tests.test_falsehoods import is_false_due
 from tests.test_offices import OFFICE, WORTHS
@@ -74,6 +74,11 @@ def bags_due(book):
     """The counted bags: their deeds by names, rising."""
     pages = dict(book)
     return {at: pages[at] for at in names_due(book, "counted") if pages[at][0] == "bag"}
+
+
+def all_answers(office, book):
+    """All that can be asked of where a note is: each counted bag, then each place."""
+    return [("bag", at) for at in bags_due(book)] + [("at", place) for place in office_places(office)]
 
 
 @functools.lru_cache(2000)

@@ -23,7 +23,8 @@ BOOK = (
     count(name(4), "bank", 3), count(name(5), "bank", 9), move((5, 0, "b"), "bank", "post", (("a", 1, 2),)),
 )
 LINES = (
-    "book", "book 3", "where a:1", "where a:1 4", "where c:7", "seen press", "seen press 1", "worth press", "worth press 1",
+    "book", "book 3", "where a:1", "where a:1 4", "where c:7", "seen press", "seen press 1", "worth press",
+    "worth press 1",
     "balance press", "balance press 1", "offs bank", "offs bank 4", "off bank", "false", "unseen", "can a:1", "can a:3",
     "told", "then 0", "then 6", "back", "tell 9.0.a void 1.0.a", OFFICE_LINE,
 )
@@ -82,14 +83,17 @@ class OfficeTest(DeskCase):
     def test_lines_that_are_no_offices(self):
         many = ",".join(sorted(f"{one}>{other}" for one in "bcde" for other in "bcdefg" if one != other)[:17])
         for rest in (
-            "", "a:5", "a:5 ", " none>press", "a:5  none>press", "a:5 none>press ", " a:5 none>press", "a:5 none>press x",
+            "", "a:5", "a:5 ", " none>press", "a:5  none>press", "a:5 none>press ", " a:5 none>press",
+            "a:5 none>press x",
             "none>press a:5", "a none>press", "a: none>press", ":5 none>press", "a:0 none>press", "a:05 none>press",
             "a:1000001 none>press", "a:-5 none>press", "A:5 none>press", "a:5, none>press", ",a:5 none>press",
             "a:5,a:6 none>press", "a:5,a:5 none>press", "b:5,a:5 none>press", "a:5;b:6 none>press", "a:5:6 none>press",
             "a:1,b:1,c:1,d:1,e:1 none>press", "abcdefghi:5 none>press", "a:5 press", "a:5 >press", "a:5 none>",
-            "a:5 none>press>bank", "a:5 press>none", "a:5 press>press", "a:5 none>press,none>press", "a:5 -", "- none>press",
+            "a:5 none>press>bank", "a:5 press>none", "a:5 press>press", "a:5 none>press,none>press", "a:5 -",
+            "- none>press",
             "a:5 press>bank,none>press", "a:5 none>press,", "a:5 none>Press", "a:5 none-press", "a:5 none>abcdefghi",
-            "a:5 " + ",".join(sorted("none>" + place for place in "bcdefghij")), "a:5 " + many, "a:" + "9" * 5000 + " none>press",
+            "a:5 " + ",".join(sorted("none>" + place for place in "bcdefghij")), "a:5 " + many,
+            "a:" + "9" * 5000 + " none>press",
         ):
             line = "office " + rest
             self.is_none(Desk(), line)
@@ -145,7 +149,8 @@ class TellTest(DeskCase):
     def test_lines_that_tell_no_page(self):
         desk = self.desk(BOOK)
         for rest in (
-            "", " ", "1.0.a", "9.0.a move", "9.0.a move none bank a:0", "9.0.a move none press c:0", "9.0.a move none press -",
+            "", " ", "1.0.a", "9.0.a move", "9.0.a move none bank a:0", "9.0.a move none press c:0",
+            "9.0.a move none press -",
             "9.0.a move none press a:00", "9.0.a  move none press a:0", " 9.0.a move none press a:0",
             "9.0.a move none press a:0 ", "9.0.a bag none press 4", "9.0.a bag press bank 0", "9.0.a count none 3",
             "9.0.a read 2.0 a:0", "9.0.a void", "x", "100000.0.a void 1.0.a", "2.0.a bag press mint 3",
@@ -156,8 +161,8 @@ class TellTest(DeskCase):
 
     def test_all_deeds(self):
         desk = self.desk(BOOK + (void(name(6), name(1)),))
-        texts = ("1.0.a move none press a:0-4,b:0-1; 2.0.a bag press bank 3; 3.0.a read 2.0.a a:0-1; 4.0.a count bank 3; "
-                 "5.0.a count bank 9; 5.0.b move bank post a:1; 6.0.a void 1.0.a")
+        texts = ("1.0.a move none press a:0-4,b:0-1; 2.0.a bag press bank 3; 3.0.a read 2.0.a a:0-1; "
+                 "4.0.a count bank 3; 5.0.a count bank 9; 5.0.b move bank post a:1; 6.0.a void 1.0.a")
         self.says(texts, desk, "book")
 
 
@@ -173,7 +178,8 @@ class AskTest(DeskCase):
         desk = self.desk(BOOK)
         for line, text in (
             ("where a:1", "post"), ("where a:1 4", "bank"), ("where a:1 2", "press"), ("where a:1 0", "none"),
-            ("where a:9", "none"), ("where c:7", "none"), ("where zzzzzzzz:999999999 3", "none"), ("where b:1", "press"),
+            ("where a:9", "none"), ("where c:7", "none"), ("where zzzzzzzz:999999999 3", "none"),
+            ("where b:1", "press"),
         ):
             self.says(text, desk, line)
 
@@ -181,7 +187,8 @@ class AskTest(DeskCase):
         desk = self.desk(BOOK)
         for line, text in (
             ("seen press", "a:2-4,b:0-1"), ("seen press 1", "a:0-4,b:0-1"), ("seen bank", "a:0"), ("seen bank 2", "-"),
-            ("seen post", "a:1"), ("seen post 4", "-"), ("worth press", "35"), ("worth press 1", "45"), ("worth post", "5"),
+            ("seen post", "a:1"), ("seen post 4", "-"), ("worth press", "35"), ("worth press 1", "45"),
+            ("worth post", "5"),
             ("worth bank 2", "0"),
         ):
             self.says(text, desk, line)
@@ -223,7 +230,8 @@ class AskTest(DeskCase):
     def test_can(self):
         desk = self.desk(BOOK)
         for line, text in (
-            ("can a:0", "at bank; at post"), ("can a:1", "at bank; at post"), ("can c:7", "at none"), ("can a:9", "at none"),
+            ("can a:0", "at bank; at post"), ("can a:1", "at bank; at post"), ("can c:7", "at none"),
+            ("can a:9", "at none"),
             ("can a:3", "bag 2.0.a; at bank; at post; at press"),
         ):
             self.says(text, desk, line)
@@ -245,12 +253,15 @@ class AskTest(DeskCase):
     def test_lines_that_are_none(self):
         desk = self.desk(BOOK)
         for line in (
-            "", " ", "Book", "book ", " book", "books", "book x", "book -1", "book 03", "book 100000", "book 3 4", "book  3",
-            "book 3 ", "told 3", "told ", "back 1", "back ", "then", "then ", "then x", "then -1", "then 00", "then 1000",
+            "", " ", "Book", "book ", " book", "books", "book x", "book -1", "book 03", "book 100000", "book 3 4",
+            "book  3",
+            "book 3 ", "told 3", "told ", "back 1", "back ", "then", "then ", "then x", "then -1", "then 00",
+            "then 1000",
             "then 1 2", "then 6 3", "where", "where ", "where a", "where a:", "where a:07", "where a:1000000000",
             "where A:7", "where a:0-1", "where -", "where a:1,a:2", "where a:1 x", "where a:1 03", "where a:1 100000",
             "where a:1 2 3", "where abcdefghi:1", "where a:1  4", "seen press x", "seen press -1", "seen press 1 1",
-            "seen 1", "worth press 100000", "balance press 01", "offs bank x", "off bank 4", "off bank ", "off bank bank",
+            "seen 1", "worth press 100000", "balance press 01", "offs bank x", "off bank 4", "off bank ",
+            "off bank bank",
             "false 3", "false ", "false a:1", "unseen 3", "unseen ", "can", "can ", "can a:1 3", "can a", "can a:01",
             "can a:1 ", "count bank", "none", "-", "offices a:5 none>press", "seen PRESS", "where a:1 " + "9" * 5000,
             "then " + "9" * 5000, "book\n", "told\n", "book; book",
@@ -263,8 +274,10 @@ class AskTest(DeskCase):
             if type(line) is str:
                 self.is_none(desk, line)
         chance = random.Random(351)
-        words = ("book", "where", "seen", "tell", "then", "a:1", "press", "none", "3", "", "office", "off", "can", "told")
-        pieces = {"book", "book 3", "told", "then 3", "seen press", "seen press 3", "where a:1", "where a:1 3", "can a:1",
+        words = ("book", "where", "seen", "tell", "then", "a:1", "press", "none", "3", "", "office", "off", "can",
+                 "told")
+        pieces = {"book", "book 3", "told", "then 3", "seen press", "seen press 3", "where a:1", "where a:1 3",
+                  "can a:1",
                   "off press"}
         for _ in range(2000):
             line = " ".join(chance.choice(words) for _ in range(chance.randint(1, 4)))
@@ -322,8 +335,11 @@ class RandomTest(DeskCase):
         self.says(shown_runs(false_runs(office, book)), desk, "false")
         self.asked(desk, "unseen", lambda: str(unseen(office, book)))
         for note in (("a", 0), ("a", 3), ("b", 1)):
-            self.asked(desk, f"can {note[0]}:{note[1]}", lambda: "; ".join(
-                f"bag {shown_name(what)}" if word == "bag" else f"at {what}" for word, what in can_be(office, book, note)))
+            self.asked(desk, f"can {note[0]}:{note[1]}", lambda: self.answers(office, book, note))
+
+    def answers(self, office, book, note):
+        texts = {"bag": shown_name, "at": str}
+        return "; ".join(word + " " + texts[word](what) for word, what in can_be(office, book, note))
 
     def test_random_books(self):
         chance = random.Random(352)

@@ -47,7 +47,8 @@ class TellTest(LedgerCase):
     def test_another_page_of_the_name(self):
         pages = [move(name(1)), bag(name(2))]
         ledger = self.ledger(*pages)
-        for page in (bag(name(1)), void(name(1), name(1)), move(name(1), runs=(("a", 0, 4),)), move(name(1), "press", "bank")):
+        for page in (bag(name(1)), void(name(1), name(1)), move(name(1), runs=(("a", 0, 4),)),
+                     move(name(1), "press", "bank")):
             self.refuses("other", name(1), ledger, page, pages)
         self.refuses("other", name(2), ledger, bag(name(2), many=5), pages)
 
@@ -57,7 +58,8 @@ class TellTest(LedgerCase):
         for thing in (
             None, True, 0, "", (), [], "1.0.a move none press a:0-4", list(move(name(1))), (name(1),), (name(1), None),
             (name(1), ()), (name(1), ("move",)), move(name(1), "press", "none"), move(name(1), runs=()),
-            move(name(1), runs=(("c", 0, 1),)), bag(name(2), "none", "press"), bag(name(2), many=True), bag(name(2), many=0),
+            move(name(1), runs=(("c", 0, 1),)), bag(name(2), "none", "press"), bag(name(2), many=True),
+            bag(name(2), many=0),
             count(name(2), "mint"), ((True, 0, "a"), move(name(1))[1]), ((1, False, "a"), move(name(1))[1]),
             move(name(3), "none", "bank"), (list(name(1)), move(name(1))[1]), tuple(pages),
         ):
@@ -202,7 +204,8 @@ class TakeInTest(LedgerCase):
 
     def test_another_office(self):
         office = (WORTHS + (("c", 1),), OFFICE[1] + (("vault", "bank"),))
-        others = [move(name(1)), move(name(3), runs=(("c", 0, 1),)), bag(name(2), many=7), move(name(4), "vault", "bank")]
+        others = [move(name(1)), move(name(3), runs=(("c", 0, 1),)), bag(name(2), many=7),
+                  move(name(4), "vault", "bank")]
         other = self.ledger(*others, office=office)
         one = self.ledger(bag(name(2)))
         self.is_refused("kind", None, one, other, [bag(name(2))], others)
@@ -218,7 +221,8 @@ class TakeInTest(LedgerCase):
     def test_no_page_of_this_office_goes_ahead_of_another_of_the_name(self):
         office = (WORTHS + (("c", 1),), OFFICE[1])
         others = [move(name(2), runs=(("c", 0, 1),))]
-        self.is_refused("kind", None, self.ledger(bag(name(2))), self.ledger(*others, office=office), [bag(name(2))], others)
+        self.is_refused("kind", None, self.ledger(bag(name(2))), self.ledger(*others, office=office), [bag(name(2))],
+                        others)
 
     def test_random_ones(self):
         chance = random.Random(332)

@@ -95,7 +95,8 @@ class RenamedTest(PlainCase):
 
 class RenamedBookTest(PlainCase):
     BOOK = (
-        move(name(1), runs=(("a", 0, 5), ("b", 2, 9))), bag((1, 0, "b")), read(name(2), (1, 0, "b"), (("a", 0, 2), ("b", 4, 5))),
+        move(name(1), runs=(("a", 0, 5), ("b", 2, 9))), bag((1, 0, "b")),
+        read(name(2), (1, 0, "b"), (("a", 0, 2), ("b", 4, 5))),
         count((2, 0, "c"), "bank", 3), void((2, 1, "a"), name(9, 0, "b")), void((2, 1, "b"), name(9, 0, "c")),
     )
 
@@ -130,7 +131,8 @@ class RenamedBookTest(PlainCase):
             office = random_office(chance)
             book = random_book(chance, 10, office[1])
             places = ["press", "bank", "post", "mint"]
-            words = (dict(zip("ab", chance.sample("abxz", 2))), dict(zip(places, chance.sample(places + ["aa", "zz"], 4))),
+            words = (dict(zip("ab", chance.sample("abxz", 2))),
+                     dict(zip(places, chance.sample(places + ["aa", "zz"], 4))),
                      dict(zip("ab", chance.sample("abcz", 2))))
             self.same(turned_book(book, words), renamed_book, book, words)
             self.assertTrue(is_book(renamed(office, words), renamed_book(book, words)))

@@ -64,7 +64,8 @@ class LetsPricesTest(PricesCase):
 
     def test_bags(self):
         for k, of_bags in (
-            (0, ()), (0, OF_BAGS[1:]), (0, OF_BAGS[::-1]), (1, OF_BAGS[:1]), (1, OF_BAGS[:1] * 2), (2, OF_BAGS + OF_BAGS),
+            (0, ()), (0, OF_BAGS[1:]), (0, OF_BAGS[::-1]), (1, OF_BAGS[:1]), (1, OF_BAGS[:1] * 2),
+            (2, OF_BAGS + OF_BAGS),
             (2, OF_BAGS + ((name(6), 0),)), (1, (OF_BAGS[0], (name(6), 0))), (0, ((name(6), 0),) + OF_BAGS),
             (1, (OF_BAGS[0], (name(8), 0), OF_BAGS[1])), (2, OF_BAGS + ((name(9), BIG), (name(9), BIG))),
             (1, (OF_BAGS[0], (name(5, 1), 1))),
@@ -77,9 +78,11 @@ class LetsPricesTest(PricesCase):
         one, two, three = OF_SUPPLIES
         for k, of_supplies in (
             (0, ()), (1, OF_SUPPLIES[:1]), (2, OF_SUPPLIES[:2]), (0, OF_SUPPLIES[1:]), (0, OF_SUPPLIES[::-1]),
-            (3, OF_SUPPLIES + OF_SUPPLIES), (3, OF_SUPPLIES + ((name(8), -1),)), (1, (one, three)), (1, (one, one, two)),
+            (3, OF_SUPPLIES + OF_SUPPLIES), (3, OF_SUPPLIES + ((name(8), -1),)), (1, (one, three)),
+            (1, (one, one, two)),
             (0, ((name(1), -1), two, three)), (1, (one, (name(3), -1), three)), (2, (one, two, (name(7), -BIG))),
-            (1, (one, (name(3), -1))), (1, (one, (name(4), 0), (name(7), -1))), (0, ((name(1), -1), (name(4), 0), three)),
+            (1, (one, (name(3), -1))), (1, (one, (name(4), 0), (name(7), -1))),
+            (0, ((name(1), -1), (name(4), 0), three)),
             (1, (one, (name(3), -1), (name(8), 0))),
         ):
             self.due(("supplies", k), (OF_BAGS, of_supplies))

@@ -6,7 +6,9 @@ import re
 from pressnotes.errors import NoText
 from pressnotes.readings import read_book, read_page, read_row_text, read_runs
 from pressnotes.texts import shown_book, shown_page, shown_row, shown_runs
-from tests.support import JUNK, TOP, PlainCase, notes_of, office_places, random_office, random_runs, runs_from, runs_like
+from tests.support import (
+    JUNK, TOP, PlainCase, notes_of, office_places, random_office, random_runs, runs_from, runs_like,
+)
 from tests.test_books import bag, count, move, name, random_book, read, void
 from tests.test_offices import OFFICE, WORTHS
 from tests.test_texts import WRITTEN
@@ -104,7 +106,8 @@ SPOILT = (
     "a:7,a:9", "a:7,a:7", "a:9,a:7", "b:7,a:7", "a:0-5,a:5-9", "a:0-5,a:6-9", "a:0-5,a:7-9", "A:7", "ab1:7", "a b:7",
     "abcdefgh:7", "abcdefghi:7", "a:999999999", "a:1000000000", "a:0-999999999", "a:0-1000000000", "a:7-999999999",
     "a:999999999-999999999", "a:7:8", "a:x", "a:7x", "a: 7", " a:7", "a:7 ", "a:7 b:8", "a:7  b:8", "7", "7:a", "a:7,-",
-    "-,a:7", "- ", " -", "- -", "a:" + "9" * 50, "a:0-" + "9" * 50, "a:" + "9" * 3000, "a;7", "a:7;a:9", "a:1_0", "a:1e3",
+    "-,a:7", "- ", " -", "- -", "a:" + "9" * 50, "a:0-" + "9" * 50, "a:" + "9" * 3000, "a;7", "a:7;a:9", "a:1_0",
+    "a:1e3",
 )
 
 
@@ -134,7 +137,8 @@ class RunsAndRowsTest(TextCase):
 
     def test_refused(self):
         for text, word in (
-            ("", 0), (" ", 0), (" a:7", 0), ("a:7 ", 1), ("a:7  ", 1), ("a:7 b:8", 1), ("a:07", 0), ("a:7-7", 0), ("- -", 1),
+            ("", 0), (" ", 0), (" a:7", 0), ("a:7 ", 1), ("a:7  ", 1), ("a:7 b:8", 1), ("a:07", 0), ("a:7-7", 0),
+            ("- -", 1),
             ("a:0-5,a:6-9", 0), ("a:7,a:7", 0), ("b:7,a:7", 0), ("x y", 0), ("a:1000000000", 0), ("a:7-08", 0),
         ):
             self.refused(NoText, {"row": 0, "word": word}, read_runs, text)
@@ -197,7 +201,8 @@ class PageTest(PlainCase):
             self.assertEqual(text, shown_page(page))
 
     def test_the_name(self):
-        for text in ("", " ", "x", "1.0", "1.0.", "1..a", ".0.a", "1.0.a.b", "01.0.a", "1.00.a", "1.0.A", "1.0.abcdefghi",
+        for text in ("", " ", "x", "1.0", "1.0.", "1..a", ".0.a", "1.0.a.b", "01.0.a", "1.00.a", "1.0.A",
+                     "1.0.abcdefghi",
                      "100000.0.a", "1.1000.a", "-1.0.a", "1,0,a", "1.0.a1", " 1.0.a", "1.0.a,", "move", "+1.0.a",
                      "1" * 5000 + ".0.a"):
             self.fails(0, text + " move none press a:0-4")
@@ -219,7 +224,8 @@ class PageTest(PlainCase):
             self.fails(2, "1.0.a move " + start + " press a:0-4")
         for end in ("", "none", "bank", "post", "mint", "press1", "a:0-4"):
             self.fails(3, "1.0.a move none " + end + " a:0-4")
-        for runs in ("", "-", "c:0", "a:0-4,c:0", "a:07", "a:0-4,a:5", "a:7-7", "b:0,a:0", "4", "a", "a:1000000000", "x"):
+        for runs in ("", "-", "c:0", "a:0-4,c:0", "a:07", "a:0-4,a:5", "a:7-7", "b:0,a:0", "4", "a", "a:1000000000",
+                     "x"):
             self.fails(4, "1.0.a move none press " + runs)
         self.fails(3, "1.0.a move none")
         self.fails(4, "1.0.a move none press")
@@ -284,7 +290,8 @@ class PageTest(PlainCase):
     def test_words_changed(self):
         chance = random.Random(324)
         seen = {}
-        others = ("", "-", "0", "07", "1000000001", "none", "press", "bank", "mint", "1.0.a", "a:3", "c:3", "move", "bag",
+        others = ("", "-", "0", "07", "1000000001", "none", "press", "bank", "mint", "1.0.a", "a:3", "c:3", "move",
+                  "bag",
                   "void", "a:3,a:4")
         for _ in range(4000):
             words = chance.choice(WRITTEN)[0].split(" ")

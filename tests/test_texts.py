@@ -63,7 +63,8 @@ class RunsTest(PlainCase):
 
 class PagesTest(PlainCase):
     def test_names(self):
-        for text, at in (("12.0.b", (12, 0, "b")), ("0.0.a", (0, 0, "a")), ("99999.999.zzzzzzzz", (99999, 999, "zzzzzzzz"))):
+        for text, at in (("12.0.b", (12, 0, "b")), ("0.0.a", (0, 0, "a")),
+                         ("99999.999.zzzzzzzz", (99999, 999, "zzzzzzzz"))):
             self.same(text, shown_name, at)
 
     def test_pages(self):

@@ -5,8 +5,8 @@ import random
 from pressnotes.errors import NoWorld
 from pressnotes.whereabouts import can_be, where_paper
 from pressnotes.wherechecker import lets_where
-from tests.support import TOP, PlainCase, office_places, random_office
-from tests.test_bags import ALWAYS, SOME_NOTES, bags_due, true_book, unread_due
+from tests.support import TOP, PlainCase, random_office
+from tests.test_bags import ALWAYS, SOME_NOTES, all_answers, bags_due, true_book, unread_due
 from tests.test_books import bag, move, name, read, void
 from tests.test_falsehoods import ends_of_walks, is_false_due
 from tests.test_filling import REFUSED, choices_due, has_world, random_refused, ways_to_lie
@@ -39,7 +39,7 @@ class WhereCase(PlainCase):
         """Just these answers are told, and each other one is shown not to be, too."""
         self.same(due, can_be, office, book, note)
         words = {}
-        for answer in [("bag", at) for at in bags_due(book)] + [("at", place) for place in office_places(office)]:
+        for answer in all_answers(office, book):
             told = self.ask(where_paper, office, book, note, answer)
             self.assertIs(tuple, type(told))
             truth, paper = told

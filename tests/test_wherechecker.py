@@ -9,7 +9,7 @@ from tests.support import (
     BIG, JUNK, TOP, PlainCase, all_sets, cut_due, office_places, only_lists_for_tuples, only_truths_for_numbers,
     random_office, set_like, variants,
 )
-from tests.test_bags import ALWAYS, SOME_NOTES, bags_due, can_lie_due, supplies_due, true_book
+from tests.test_bags import ALWAYS, SOME_NOTES, all_answers, bags_due, can_lie_due, supplies_due, true_book
 from tests.test_books import bag, move, name, read
 from tests.test_fillchecker import BOOK, RIGHT, can_take_due, filling_due, wanted_due
 from tests.test_filling import all_fillings, has_world
@@ -286,8 +286,7 @@ class CutTest(WhereCase):
 
     def test_all_sets(self):
         for note in (NOTE, ("a", 0), ("b", 1)):
-            answers = [("bag", at) for at in bags_due(BOOK)] + [("at", place) for place in office_places(OFFICE)]
-            for answer in answers:
+            for answer in all_answers(OFFICE, BOOK):
                 for places in all_sets(OFFICE):
                     self.as_due(answer, ("cut", places), note)
 
@@ -302,7 +301,8 @@ class TightTest(WhereCase):
 
     def test_shape(self):
         for thing in (
-            None, True, [], [name(2)], name(2), (name(4), name(2)), (name(2), name(2)), (None,), ((2, 0),), "", (name(2), 1),
+            None, True, [], [name(2)], name(2), (name(4), name(2)), (name(2), name(2)), (None,), ((2, 0),), "",
+            (name(2), 1),
             ((2, False, "a"),), (list(name(2)),), ((name(2),),), ((-1, 0, "a"),),
         ):
             self.due_tight(("shape", -1), ("at", "bank"), thing)
@@ -370,7 +370,7 @@ class RandomTest(WhereCase):
             for note in chance.sample(SOME_NOTES, 2):
                 papers = self.papers(office, book, note)
                 some = papers if len(papers) < 150 else chance.sample(papers, 150)
-                for answer in [("bag", at) for at in bags_due(book)] + [("at", at) for at in office_places(office)]:
+                for answer in all_answers(office, book):
                     truth, paper = where_paper(office, book, note, answer)
                     self.due(("told", truth), answer, paper, note, book, office)
                     seen[truth] += 1

@@ -37,7 +37,7 @@ from pressnotes.wherechecker import lets_where
 from pressnotes.worthchecker import lets_worth
 from pressnotes.worths import worth_between, worth_papers
 from tests.support import PlainCase, distances, notes_of, office_places, random_office, random_runs, runs_from
-from tests.test_bags import ALWAYS, SOME_NOTES, bags_due, supplies_due, true_book
+from tests.test_bags import ALWAYS, SOME_NOTES, all_answers, bags_due, supplies_due, true_book
 from tests.test_books import move, name, random_book, void
 from tests.test_manyin import numbers_due, sums_due
 from tests.test_naming import later, later_book, turned_book, turned_name, turned_notes, turned_office
@@ -173,7 +173,8 @@ class SeatsTest(PlainCase):
         chance = random.Random(366)
         for _ in range(40):
             order = tuple(chance.sample(("sheet", "row", "column"), 3))
-            printing = ("a", chance.randint(0, 50), chance.randint(1, 4), chance.randint(1, 4), chance.randint(1, 5), order)
+            printing = ("a", chance.randint(0, 50), chance.randint(1, 4), chance.randint(1, 4), chance.randint(1, 5),
+                        order)
             series, low, high = printed(printing)
             seats = [seat_of(printing, number) for number in range(low, high)]
             self.assertEqual(high - low, len(set(seats)))
@@ -232,7 +233,8 @@ class FalseTest(PlainCase):
             office = random_office(chance, most=6, always=(("none", "bank"), ("none", "press")))
             book = random_book(chance, 6, office[1])
             ends = chance.choice((("press", "press"), ("press", "bank"), ("bank", "press")))
-            one, other = move((7, 0, "a"), "none", ends[0], (("a", 0, 5),)), move((7, 0, "b"), "none", ends[1], (("a", 3, 9),))
+            one = move((7, 0, "a"), "none", ends[0], (("a", 0, 5),))
+            other = move((7, 0, "b"), "none", ends[1], (("a", 3, 9),))
             twice = book_of(book + (one, other))
             self.assertTrue(is_within((("a", 3, 5),), false_runs(office, twice)))
             # A void ends it.
@@ -256,7 +258,7 @@ class MissingTest(PlainCase):
             note = chance.choice(SOME_NOTES)
             due = answers_due(office, book, note)
             self.same(due, can_be, office, book, note)
-            for answer in [("bag", at) for at in bags_due(book)] + [("at", place) for place in office_places(office)]:
+            for answer in all_answers(office, book):
                 truth, paper = where_paper(office, book, note, answer)
                 self.assertIs(answer in due, truth)
                 self.same(truth, lets_where, office, book, note, answer, paper)
@@ -326,7 +328,8 @@ class Turn:
         return runs_from(turned_notes(notes_of(runs), self.words))
 
     def steps(self, told):
-        return tuple((self.name(step[0]), self.place(step[1]), self.place(step[2]), self.name(step[3])) for step in told)
+        return tuple((self.name(moment), self.place(one), self.place(other), self.name(at))
+                     for moment, one, other, at in told)
 
     def pairs(self, pairs):
         """Pairs that begin with a name."""
@@ -376,7 +379,8 @@ TURNS = (
     Turn(({"a": "z", "b": "y"}, {"press": "xpress", "bank": "abank"}, {"a": "c", "b": "d"})),
     Turn(({"a": "b", "b": "a"}, {"press": "bank", "bank": "post", "post": "press"}, {})),
     Turn(({"a": "q"}, {"mint": "aaa", "post": "mint"}, {"b": "zz"})),
-    Turn(({}, {}, {}), 1), Turn(({}, {}, {}), 99990), Turn(({"b": "none"}, {"post": "a"}, {"a": "none", "b": "nooo"}), 17),
+    Turn(({}, {}, {}), 1), Turn(({}, {}, {}), 99990),
+    Turn(({"b": "none"}, {"post": "a"}, {"a": "none", "b": "nooo"}), 17),
 )
 
 
@@ -402,8 +406,8 @@ class TurnedTest(PlainCase):
                 self.assertEqual(turn.runs(made(book)), made(book_so))
                 self.assertEqual(tuple((turn.name(at), turn.runs(runs)) for at, runs in last_pages(book)),
                                  last_pages(book_so))
-                self.assertEqual(tuple(sorted((turn.place(one), turn.place(other), many) for one, other, many in gaps(book))),
-                                 gaps(book_so))
+                due = sorted((turn.place(one), turn.place(other), many) for one, other, many in gaps(book))
+                self.assertEqual(tuple(due), gaps(book_so))
                 self.assertEqual(turn.pairs(unread(book)), unread(book_so))
                 self.assertEqual(turn.runs(false_runs(office, book)), false_runs(office_so, book_so))
                 self.assertEqual(told_or_refused(unseen, office, book), told_or_refused(unseen, office_so, book_so))
@@ -454,7 +458,8 @@ class TurnedTest(PlainCase):
                     self.assertEqual(turn.set(between(office, book, note, i)), between(office_so, book_so, that, i))
                     for place in office_places(office):
                         truth, paper = between_paper(office, book, note, i, place)
-                        self.same(truth, lets_between, office_so, book_so, that, i, turn.place(place), turn.between(paper))
+                        self.same(truth, lets_between, office_so, book_so, that, i, turn.place(place),
+                                  turn.between(paper))
 
     def test_bags(self):
         chance = random.Random(373)
@@ -484,9 +489,10 @@ class TurnedTest(PlainCase):
             self.worths_and_many(chance, turn, office, book, office_so, book_so)
             for note in chance.sample(SOME_NOTES, 2):
                 self.assertEqual(turn.answers(can_be(office, book, note)), can_be(office_so, book_so, turn.note(note)))
-                for answer in [("bag", at) for at in bags_due(book)] + [("at", place) for place in office_places(office)]:
+                for answer in all_answers(office, book):
                     truth, paper = where_paper(office, book, note, answer)
-                    self.same(truth, lets_where, office_so, book_so, turn.note(note), turn.answer(answer), turn.where(paper))
+                    self.same(truth, lets_where, office_so, book_so, turn.note(note), turn.answer(answer),
+                              turn.where(paper))
         self.assertGreater(told, 25)
 
     def worths_and_many(self, chance, turn, office, book, office_so, book_so):

@@ -144,7 +144,8 @@ class LetsWorthTest(WorthCase):
             (((name(1), name(2), "a", 0),), sets), (((name(1), name(2), "a", True),), sets),
             (((name(1), name(2), "a", -1),), sets), (((name(1), name(2), "A", 1),), sets),
             (((name(1), name(2), "", 1),), sets), (((name(1), name(2), "abcdefghi", 1),), sets),
-            (((name(1), name(2), 1, 1),), sets), (((name(1), name(2), None, 1),), sets), (((None, name(2), "a", 1),), sets),
+            (((name(1), name(2), 1, 1),), sets), (((name(1), name(2), None, 1),), sets),
+            (((None, name(2), "a", 1),), sets),
             (((name(1), (2, 0), "a", 1),), sets), (((name(1), (2, False, "a"), "a", 1),), sets),
             # Alike in the first three, and the series out of order.
             (((name(1), name(2), "a", 1), (name(1), name(2), "a", 2)), sets),
@@ -189,7 +190,8 @@ class LetsWorthTest(WorthCase):
 
     def test_names(self):
         for k, sets in (
-            (0, ((name(6),), ())), (1, ((), (name(6),))), (0, ((name(8),), (name(6),))), (1, ((name(2),), (name(1), name(2)))),
+            (0, ((name(6),), ())), (1, ((), (name(6),))), (0, ((name(8),), (name(6),))),
+            (1, ((name(2),), (name(1), name(2)))),
             (1, ((name(2), name(5)), (name(2), name(5), name(9)))), (0, ((name(0), name(2)), ())),
         ):
             self.both_due(("names", k), (MOST[0], sets))

@@ -145,8 +145,9 @@ class RandomTest(WorthsCase):
             bag_roads = [road for road in roads if road[0] != "none"]
             if not bag_roads:
                 continue
-            book = [move(name(at), "none", chance.choice("pqr"), tuple(sorted(
-                (series, at % 4, at % 4 + 1) for series in chance.sample("ab" if at > 3 else "cd", 2)))) for at in range(6)]
+            pairs = ("cd", "cd", "cd", "cd", "ab", "ab")
+            book = [move(name(at), "none", chance.choice("pqr"), tuple((series, at % 4, at % 4 + 1) for series in pair))
+                    for at, pair in enumerate(pairs)]
             book += [bag(name(9, at), *chance.choice(bag_roads), chance.randint(1, 3)) for at in range(4)]
             book = tuple(book)
             if not has_world(office, book):
