@@ -50,9 +50,7 @@ def kind_due(things):
 def runs_there(office, word):
     """The RUNS that the word writes, where a move or a read can have them."""
     runs = runs_in(word)
-    if runs is None or not is_named_runs(office, runs):
-        return None
-    return runs
+    return runs if is_named_runs(office, runs) else None
 
 
 def is_place_there(office, kind, ahead, word):

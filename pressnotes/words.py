@@ -53,9 +53,7 @@ def runs_in(word):
     if word == "-":
         return ()
     row = row_in(word)
-    if row is None or not is_runs(row):
-        return None
-    return row
+    return row if is_runs(row) else None
 
 
 def name_in(word):

@@ -19,6 +19,12 @@ BARRED_WORDS = re.compile(
     r"\b(type|typing|typing_extensions|enum|Enum|IntEnum|StrEnum|Flag|IntFlag|Generic|Protocol|ABC|ABCMeta|"
     r"namedtuple|NamedTuple|TypedDict|TYPE_CHECKING|abstractmethod)\b|dataclass|overload|contextmanager")
 
+BUILTIN_METHODS = set("""
+    append clear copy count endswith extend find get index insert isalnum isalpha isdigit islower isspace isupper items
+    join keys ljust lower lstrip partition pop remove replace reverse rfind rjust rpartition rsplit rstrip setdefault
+    split splitlines startswith strip update upper values zfill bit_length add discard sort
+""".split())
+
 BARRED_NODES = (
     ast.Global, ast.AsyncFunctionDef, ast.AsyncFor, ast.AsyncWith, ast.Await, ast.Div, ast.MatMult,
 )
@@ -146,3 +152,41 @@ class LanguageTest(unittest.TestCase):
                             self.assertIn(right.value, (None, True, False), (name, node.lineno))
                 if isinstance(node, ast.ExceptHandler):
                     self.assertIsNotNone(node.type, (name, node.lineno))
+
+    def test_methods_and_attributes(self):
+        methods, stored, called, read = {}, set(), set(), set()
+        for name, tree in trees():
+            for node in ast.walk(tree):
+                if isinstance(node, ast.ClassDef):
+                    own = [item.name for item in node.body if isinstance(item, ast.FunctionDef)]
+                    self.assertEqual(len(own), len(set(own)), (name, node.name))
+                    methods.update({method: node.name for method in own if not method.startswith("__")})
+                elif isinstance(node, ast.Attribute) and isinstance(node.ctx, ast.Store):
+                    self.assertIsInstance(node.value, ast.Name, (name, node.lineno))
+                    stored.add(node.attr)
+                elif isinstance(node, ast.Call) and isinstance(node.func, ast.Attribute):
+                    called.add(node.func.attr)
+                elif isinstance(node, ast.Attribute):
+                    read.add(node.attr)
+        self.assertEqual(set(), set(methods) & stored)
+        self.assertEqual(set(), called - set(methods) - BUILTIN_METHODS)
+        # What is called is looked at above and read here once more, as the function of the call.
+        self.assertEqual(set(), read - stored - called)
+        self.assertEqual(set(), (stored | set(methods)) & BUILTIN_METHODS)
+
+    def test_raising_and_catching(self):
+        for name, tree in trees():
+            for node in ast.walk(tree):
+                if isinstance(node, ast.Raise):
+                    self.assertIsInstance(node.exc, ast.Call, (name, node.lineno))
+                    self.assertRegex(node.exc.func.id, "^No[A-Z]", (name, node.lineno))
+                if isinstance(node, ast.ExceptHandler):
+                    self.assertRegex(node.type.id, "^No[A-Z]", (name, node.lineno))
+
+    def test_no_tables_within_tables_at_module_level(self):
+        for name, tree in trees():
+            for node in tree.body:
+                if isinstance(node, ast.Assign):
+                    for inner in ast.walk(node.value):
+                        self.assertNotIsInstance(inner, (ast.Call, ast.ListComp, ast.DictComp, ast.Set), name)
+                        self.assertTrue(inner is node.value or not isinstance(inner, (ast.List, ast.Dict)), name)
